@@ -1,22 +1,30 @@
 """The calls on six slots, and their answers."""
 
-from knownof.reckoning import join, meet
+from knownof.comparing import TESTS, left_of_both, verdict
+from knownof.reckoning import is_within, join, meet, minus, plus, rem, times, widen
 from knownof.value import BOUND, few_of, first_numbers, has, hull, is_beyond, made_of, told
 
 SLOTS = 6
 MOST_LISTED = 40
 MOST_FIRST = 50
+MOST_THRESHOLDS = 8
+MOST_DIVISOR = 99
 
 OUT_OF_RANGE = -1
 NO_SLOT = -2
+NO_TEST = -3
 NO_COUNT = -4
 
-# By a call's number: how many whole numbers it has, and how many of them, from the first one on, are slots.
-WHOLE_NUMBERS = (1, 6, 1, 2, 1, 2, 3, 3)
-SLOT_NUMBERS = (1, 1, 1, 1, 1, 1, 3, 3)
+# By a call's number: how many whole numbers it has, and which of them are slots: from where on, and up to where.
+WHOLE_NUMBERS = (1, 6, 1, 2, 1, 2, 3, 3, 3, 2, 3, 3, 3, 3, 5, 3)
+SLOTS_FROM = (0, 0, 0, 0, 0, 0, 0, 0, 0, 0, 0, 0, 0, 0, 1, 1)
+SLOTS_UP_TO = (1, 1, 1, 1, 1, 1, 3, 3, 3, 2, 3, 3, 3, 2, 5, 3)
 
 # The row of such a call is handed on behind its whole numbers, without its length.
-CALLS_WITH_A_ROW = (0,)
+CALLS_WITH_A_ROW = (0, 8)
+
+# The first whole number of such a call is the test.
+CALLS_WITH_A_TEST = (14, 15)
 
 
 def keep(slots, new, value):
@@ -72,6 +80,50 @@ def answer_meet(slots, handed):
     return keep(slots, handed[0], meet(slots[handed[1]], slots[handed[2]]))
 
 
+def answer_widen(slots, handed):
+    thresholds = handed[3:]
+    if len(thresholds) > MOST_THRESHOLDS or any([is_beyond(threshold) for threshold in thresholds]):
+        return [OUT_OF_RANGE]
+    return keep(slots, handed[0], widen(slots[handed[1]], slots[handed[2]], thresholds))
+
+
+def answer_within(slots, handed):
+    return [1 if is_within(slots[handed[0]], slots[handed[1]]) else 0]
+
+
+def answer_plus(slots, handed):
+    return keep(slots, handed[0], plus(slots[handed[1]], slots[handed[2]]))
+
+
+def answer_minus(slots, handed):
+    return keep(slots, handed[0], minus(slots[handed[1]], slots[handed[2]]))
+
+
+def answer_times(slots, handed):
+    return keep(slots, handed[0], times(slots[handed[1]], slots[handed[2]]))
+
+
+def answer_rem(slots, handed):
+    divisor = handed[2]
+    if divisor < 1 or divisor > MOST_DIVISOR:
+        return [NO_COUNT]
+    return keep(slots, handed[0], rem(slots[handed[1]], divisor))
+
+
+def answer_test(slots, handed):
+    new = handed[1]
+    other_new = handed[2]
+    if new == other_new:
+        return [NO_SLOT]
+    # Either new slot may be one of those that are tested, so both are looked at ahead of keeping.
+    pair = left_of_both(handed[0], slots[handed[3]], slots[handed[4]])
+    return keep(slots, new, pair[0]) + keep(slots, other_new, pair[1])
+
+
+def answer_verdict(slots, handed):
+    return [verdict(handed[0], slots[handed[1]], slots[handed[2]])]
+
+
 ANSWERERS = (
     answer_of,
     answer_parts,
@@ -81,12 +133,22 @@ ANSWERERS = (
     answer_first,
     answer_join,
     answer_meet,
+    answer_widen,
+    answer_within,
+    answer_plus,
+    answer_minus,
+    answer_times,
+    answer_rem,
+    answer_test,
+    answer_verdict,
 )
 
 
 def answer_call(slots, call, handed):
-    """What one call answers. A slot that isn't there is refused ahead of all else, so it is looked at here."""
-    for slot in handed[:SLOT_NUMBERS[call]]:
+    """What one call answers. A test, then a slot, that isn't there is refused ahead of all else, so it is here."""
+    if call in CALLS_WITH_A_TEST and (handed[0] < 0 or handed[0] >= TESTS):
+        return [NO_TEST]
+    for slot in handed[SLOTS_FROM[call]:SLOTS_UP_TO[call]]:
         if slot < 0 or slot >= SLOTS:
             return [NO_SLOT]
     answerer = ANSWERERS[call]

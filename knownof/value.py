@@ -55,8 +55,6 @@ def row_of(least, greatest, modulus, zero):
 
     Least and greatest are numbers of the value themselves, unless least is above greatest: then it is none.
     """
-    if least > greatest:
-        return few_of([])
     crosses_zero = least <= 0 and greatest >= 0 and least % modulus == 0
     size = (greatest - least) // modulus + 1
     if crosses_zero and zero != 1:
@@ -117,3 +115,28 @@ def first_numbers(value, limit):
             numbers.append(number)
         number += value.modulus
     return numbers
+
+
+def between(value, low, high):
+    """The numbers of the value from low to high."""
+    if is_few(value):
+        return few_of([number for number in value.numbers if low <= number <= high])
+    return made_of(max(low, value.least), min(high, value.greatest), value.modulus, value.remainder, value.zero)
+
+
+def without(value, number):
+    """The numbers of the value but the given one, which is 0 or at an end if the value is many."""
+    if is_few(value):
+        return few_of([kept for kept in value.numbers if kept != number])
+    if number == 0:
+        return made_of(value.least, value.greatest, value.modulus, value.remainder, 0)
+    if number == value.least:
+        return between(value, number + 1, value.greatest)
+    return between(value, value.least, number - 1)
+
+
+def negated(value):
+    """The numbers of the value times -1."""
+    if is_few(value):
+        return few_of([-number for number in reversed(value.numbers)])
+    return made_of(-value.greatest, -value.least, value.modulus, -value.remainder, value.zero)

@@ -1,6 +1,4 @@
-"""Calls written by name, their answers one by one, and the document's words over plain sets of numbers."""
-
-from math import gcd
+"""Calls written by name, and their answers one by one."""
 
 from knownof.knowledge import answers
 
@@ -42,6 +40,38 @@ def meet(new, a, b):
     return [7, new, a, b]
 
 
+def widen(new, a, b, thresholds):
+    return [8, new, a, b, len(thresholds)] + list(thresholds)
+
+
+def within(a, b):
+    return [9, a, b]
+
+
+def plus(new, a, b):
+    return [10, new, a, b]
+
+
+def minus(new, a, b):
+    return [11, new, a, b]
+
+
+def times(new, a, b):
+    return [12, new, a, b]
+
+
+def rem(new, a, n):
+    return [13, new, a, n]
+
+
+def test(which, new, other, a, b):
+    return [14, which, new, other, a, b]
+
+
+def verdict(which, a, b):
+    return [15, which, a, b]
+
+
 def run(*calls):
     """The answers of the calls, a list each."""
     given = answers([number for call in calls for number in call])
@@ -56,28 +86,3 @@ def run(*calls):
 
 def last(*calls):
     return run(*calls)[-1]
-
-
-def distances_divisor(numbers):
-    return gcd(*[number - min(numbers) for number in numbers])
-
-
-def set_made_of(lo, hi, m, r, z):
-    span = range(max(lo, -BOUND), min(hi, BOUND) + 1)
-    return {n for n in span if (n == r if m == 0 else (n - r) % m == 0) and (n != 0 or z == 1)}
-
-
-def set_hull(numbers):
-    if len(numbers) <= 6:
-        return set(numbers)
-    z = 1 if 0 in numbers else 0
-    return set_made_of(min(numbers), max(numbers), distances_divisor(numbers), min(numbers), z)
-
-
-def set_told(numbers):
-    if not numbers:
-        return [0]
-    m = distances_divisor(numbers)
-    r = min(numbers) % m if m else min(numbers)
-    few = sorted(numbers) if len(numbers) <= 6 else []
-    return [1, min(numbers), max(numbers), m, r, 1 if 0 in numbers else 0, len(few)] + few

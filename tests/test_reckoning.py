@@ -3,7 +3,8 @@
 import random
 import unittest
 
-from tests.helper import BOUND, count, has, join, last, meet, of, parts, run, set_hull, set_made_of, set_told, told
+from tests.helper import BOUND, count, has, join, last, meet, of, parts, run, told
+from tests.plain import set_hull, set_made_of, set_told
 
 MANY = parts(1, -20, 40, 4, 0, 1)
 MANY_TOLD = [1, -20, 40, 4, 0, 1, 0]

@@ -5,8 +5,8 @@ import unittest
 
 from knownof.value import made_of
 from knownof.value import told as told_value
-from tests.helper import (
-    BOUND, FAR, count, first, has, last, of, parts, run, set_hull, set_made_of, set_told, told)
+from tests.helper import BOUND, FAR, count, first, has, last, of, parts, run, told
+from tests.plain import set_hull, set_made_of, set_told
 
 
 class Of(unittest.TestCase):
