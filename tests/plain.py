@@ -105,10 +105,11 @@ def set_left(which, a, b):
     """What's left of a and of b."""
     if not a or not b:
         return set(), set()
+    least, greatest = min(a), max(b)
     if which == 0:
-        left, other_left = {x for x in a if x < max(b)}, {y for y in b if y > min(a)}
+        left, other_left = {x for x in a if x < greatest}, {y for y in b if y > least}
     elif which == 1:
-        left, other_left = {x for x in a if x <= max(b)}, {y for y in b if y >= min(a)}
+        left, other_left = {x for x in a if x <= greatest}, {y for y in b if y >= least}
     elif which == 2:
         left, other_left = a & b, a & b
     else:
